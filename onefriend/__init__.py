@@ -1,0 +1,1 @@
+"""Onefriend: nets by the numbers of common friends."""
