@@ -70,6 +70,11 @@ def all_renamed(net):
     return {renamed(net, names) for names in permutations(range(net[0]))}
 
 
+def turned(net, one, other):
+    """The net with two halls joined if they weren't, and parted if they were."""
+    return (net[0], tuple(sorted(set(net[1]) ^ {(one, other)})))
+
+
 def are_joined(net, one, other):
     return (one, other) in net[1] or (other, one) in net[1]
 

@@ -4,8 +4,8 @@ import copy
 import inspect
 import unittest
 
-from onefriend import nets, windmills
-from onefriend.errors import BadNet, FriendError
+from onefriend import families, girths, nets, samenumbers, windmills
+from onefriend.errors import BadNet, BadNumber, FriendError
 from tests.samples import MILL, NO_INTEGERS, NO_NETS, RING
 
 INTERFACE = {
@@ -16,6 +16,14 @@ INTERFACE = {
     windmills: {
         "is_one_friend": ["net"], "windmill": ["halls"], "shows_windmill": ["halls", "value"],
         "hubs": ["net"], "blades": ["net"], "count_windmills": ["halls"],
+    },
+    samenumbers: {"common_number": ["net"], "same_degree": ["net"], "sizes": ["many"]},
+    girths: {
+        "is_sparse": ["net"], "is_star": ["net"], "allowed_friends": [], "sparse_net": ["friends"],
+        "shows_sparse": ["friends", "value"],
+    },
+    families: {
+        "board": ["side"], "couples": ["many"], "squares": ["prime"], "groups": ["parts", "size"],
     },
 }
 
@@ -44,6 +52,8 @@ class InterfaceTest(unittest.TestCase):
     def test_arguments_by_keyword(self):
         self.assertEqual(nets.common(other=3, one=1, net=MILL), (0,))
         self.assertIs(windmills.shows_windmill(value=None, halls=2), True)
+        self.assertIs(girths.shows_sparse(value=None, friends=4), True)
+        self.assertEqual(families.groups(size=3, parts=2)[1][0], (0, 3))
 
 
 class ArgumentsTest(unittest.TestCase):
@@ -56,7 +66,8 @@ class ArgumentsTest(unittest.TestCase):
             for value in self.values():
                 many = len(inspect.signature(function).parameters)
                 for values in ((value,) * many, (value, [1, [2]], {1: [2]})[:many],
-                               (MILL, value, value)[:many], (5, value, value)[:many]):
+                               (MILL, value, value)[:many], (5, value, value)[:many],
+                               (2, value, value)[:many]):
                     before = copy.deepcopy(values)
                     outcome(function, values)
                     self.assertEqual(values, before)
@@ -84,6 +95,7 @@ class ArgumentsTest(unittest.TestCase):
                 outcome(function, (value,) * many)
                 outcome(function, (MILL, value, value)[:many])
                 outcome(function, (5, value, value)[:many])
+                outcome(function, (2, value, value)[:many])
 
     def test_the_leftmost_wrong_argument(self):
         for arguments in (((2, [(0, 1)]), True), ((2, ((0, 1),) * 2), 2)):
@@ -93,6 +105,12 @@ class ArgumentsTest(unittest.TestCase):
         with self.assertRaises(BadNet) as caught:
             nets.common((61, ((1, 0),)), None, "0")
         self.assertEqual(caught.exception.part, "halls")
+        for arguments in ((None, 0), (0, None), (0, 0), (True, 2), ("2", 2), (61, -1)):
+            with self.assertRaises(BadNumber):
+                families.groups(*arguments)
+        for arguments in ((None, (2, ((1, 0),))), (101, [1]), (True, None), ("2", RING)):
+            with self.assertRaises(BadNumber):
+                girths.shows_sparse(*arguments)
 
 
 if __name__ == "__main__":

@@ -2,13 +2,17 @@
 
 import unittest
 
-from onefriend.errors import BadNet, NotOne
+from onefriend.errors import BadNet, BadNumber, NotOne
+from onefriend.families import board, couples, groups, squares
+from onefriend.girths import allowed_friends, is_sparse, is_star, shows_sparse, sparse_net
 from onefriend.nets import common, counts, friends, rest
+from onefriend.samenumbers import common_number, same_degree, sizes
 from onefriend.windmills import (
     blades, count_windmills, hubs, is_one_friend, shows_windmill, windmill,
 )
 
 MILL = (5, ((0, 1), (0, 2), (0, 3), (0, 4), (1, 2), (3, 4)))
+RING = (5, ((0, 1), (0, 4), (1, 2), (2, 3), (3, 4)))
 
 
 class ExamplesTest(unittest.TestCase):
@@ -29,6 +33,25 @@ class ExamplesTest(unittest.TestCase):
     def test_windmills_error(self):
         with self.assertRaises(NotOne):
             blades((2, ((0, 1),)))
+
+    def test_samenumbers(self):
+        found = [common_number(board(4)), same_degree(board(4)), sizes(2), sizes(4),
+                 common_number((3, ((0, 1),)))]
+        self.assertEqual(found, [2, 6, ((4, 3), (16, 6)), ((6, 5), (15, 8), (96, 20)), 0])
+
+    def test_girths(self):
+        found = [is_sparse(RING), is_star(RING), shows_sparse(2, RING), is_star((3, ((0, 1), (0, 2)))),
+                 allowed_friends(), sparse_net(4), sparse_net(7)[0]]
+        self.assertEqual(found, [True, False, True, True, (2, 3, 7, 57), None, 50])
+
+    def test_families(self):
+        found = [groups(2, 2), squares(5), board(2), couples(4)[0]]
+        self.assertEqual(found, [(4, ((0, 2), (0, 3), (1, 2), (1, 3))), RING,
+                                 (4, ((0, 1), (0, 2), (1, 3), (2, 3))), 6])
+
+    def test_families_error(self):
+        with self.assertRaises(BadNumber):
+            squares(7)
 
 
 if __name__ == "__main__":

@@ -1,4 +1,4 @@
-"""Rules of the language that can be told from the files alone: L1, L2, L8, L10, L14."""
+"""Rules of the language that can be told from the files alone: L1, L2, L8, L10, L14, L15."""
 
 import ast
 import builtins
@@ -64,6 +64,21 @@ class LanguageTest(unittest.TestCase):
         for name, tree in trees():
             used = {node.id for node in ast.walk(tree) if isinstance(node, ast.Name)}
             self.assertEqual(used & barred, set(), name)
+
+    def test_no_variable_has_the_name_of_an_import_a_class_or_a_builtin(self):
+        for name, tree in trees():
+            taken = set(dir(builtins))
+            bound = set()
+            for node in ast.walk(tree):
+                if isinstance(node, ast.ImportFrom):
+                    taken.update(alias.name for alias in node.names)
+                elif isinstance(node, ast.ClassDef):
+                    taken.add(node.name)
+                elif isinstance(node, ast.arg):
+                    bound.add(node.arg)
+                elif isinstance(node, ast.Name) and not isinstance(node.ctx, ast.Load):
+                    bound.add(node.id)
+            self.assertEqual(taken & bound, set(), name)
 
 
 if __name__ == "__main__":
