@@ -1,4 +1,4 @@
-"""Nets in which all joined halls have as many friends in common, and all others as many, too."""
+"""Told nets: any two joined halls have the same number of common friends, any two others, too."""
 
 from itertools import combinations
 

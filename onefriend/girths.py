@@ -7,7 +7,7 @@ from onefriend.windmills import hubs
 
 ALLOWED_FRIENDS = (2, 3, 7, 57)
 
-# For each number of friends, how many rings with steps of one and with steps of two it takes.
+# For each number of friends, how many rings with steps of one, and of two, make up the net.
 RINGS = {2: (1, 0), 3: (1, 1), 7: (5, 5)}
 
 
